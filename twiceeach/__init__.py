@@ -1,0 +1,1 @@
+"""Twiceeach: equations between rows of letters and unknown pieces."""
