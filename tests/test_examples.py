@@ -1,0 +1,72 @@
+"""The examples of the interface, each with the answer that stands there."""
+
+import unittest
+
+from twiceeach.books import Book
+from twiceeach.errors import BadWalk
+from twiceeach.forms import form_of
+from twiceeach.gluing import Gluing
+from twiceeach.listing import fillings
+from twiceeach.names import canonical
+from twiceeach.pairs import after, settle
+from twiceeach.papers import closed_paper
+from twiceeach.symbols import replaced, turned
+from twiceeach.texts import parse_book
+from twiceeach.useful import walk_count
+from twiceeach.walks import walks
+from twiceeach.web import Web
+
+
+class Examples(unittest.TestCase):
+
+    def test_symbols(self):
+        self.assertEqual(turned(("a", "X", "Y~")), ('Y', 'X~', 'a'))
+        self.assertEqual(replaced(("X", "a", "X~"), "X", ("b", "X")), ('b', 'X', 'a', 'X~', 'b'))
+
+    def test_books(self):
+        book = Book("ab", [(["X", "a"], ["a", "X"]), ([], ["Y", "Y~"])])
+        self.assertEqual(book.joined(), (('X', 'a', '#'), ('a', 'X', '#', 'Y', 'Y~')))
+
+    def test_pairs(self):
+        self.assertEqual(settle((("a", "X", "Y"), ("a", "X~", "b"))), ((('X', 'mirror'),), (('Y',), ('b',))))
+        self.assertEqual(after((("X", "Y"), ("Y", "X")), ("starts", "X", "Y")), ((), (('X', 'Y'), ('Y', 'X'))))
+
+    def test_texts(self):
+        self.assertEqual(parse_book("letters ab\nX a = a X\n- = Y Y~").equations, ((('X', 'a'), ('a', 'X')), ((), ('Y', 'Y~'))))
+
+    def test_names(self):
+        made, table = canonical(Book("ab", [(["X~", "Y"], ["a", "X"])]))
+        self.assertEqual((made.equations, table), (((('A', 'B'), ('a', 'A~')),), {'X': 'A~', 'Y': 'B'}))
+
+    def test_web(self):
+        self.assertEqual(Web(Book("ab", [(["X", "a"], ["a", "X"])])).pairs, ((('X', 'a'), ('a', 'X')), ((), ())))
+
+    def test_useful(self):
+        self.assertEqual(walk_count(Book("ab", [(["X", "Y"], ["a", "b", "a"])])), 4)
+
+    def test_papers(self):
+        self.assertEqual(closed_paper(Book("ab", [(["X", "a"], ["b", "X"])])), ((('X', 'a'), ('b', 'X')),))
+
+    def test_forms(self):
+        form = form_of(Book("ab", [(["X", "Y"], ["Y", "X"])]), ((), (("starts", "X", "Y"), ("is", "X", "Y"))))
+        self.assertEqual((form.rows, form.free, form.weight, form.fill({"Y": "ab"})),
+                         ({'X': ('Y', 'Y'), 'Y': ('Y',)}, {'Y': 'any'}, 3, {'X': 'abab', 'Y': 'ab'}))
+        with self.assertRaises(BadWalk) as caught:
+            form_of(Book("ab", [(["X", "Y"], ["Y", "X"])]), ((), (("starts", "X", "Y"), ("is", "X", "a"))))
+        self.assertEqual(caught.exception.at, 1)
+
+    def test_walks(self):
+        self.assertEqual(list(walks(Book("ab", [(["X", "a"], ["a", "X"])]), most=2)),
+                         [((), (('is', 'X', 'a'),)), ((), (('starts', 'X', 'a'), ('is', 'X', 'a'))), (('X',), ())])
+
+    def test_listing(self):
+        self.assertEqual(fillings(Book("ab", [(["X", "a"], ["a", "X"])]), most=2), [{'X': ''}, {'X': 'a'}, {'X': 'aa'}])
+
+    def test_gluing(self):
+        gluing = Gluing(Book("ab", [(["X", "b"], ["Y", "X~"])]), {"X": 2, "Y": 1}, told={("X", 1): "a"})
+        self.assertEqual((gluing.lots, gluing.many, gluing.fillings()),
+                         (((((('X', 0), ('Y', 0)), ('b',)), ((('X', 1),), ('a',)))), 1, [{'X': 'ba', 'Y': 'b'}]))
+
+
+if __name__ == "__main__":
+    unittest.main()

@@ -1,0 +1,74 @@
+"""The names, the files and the arguments that the interface tells."""
+
+import importlib
+import inspect
+import unittest
+
+FUNCTIONS = {
+    "symbols": ["is_letter(symbol)", "is_name(text)", "is_piece(symbol)", "name_of(symbol)", "turned_symbol(symbol)", "turned(row)",
+                "names_in(*rows)", "standings(name, *rows)", "replaced(row, name, content)", "without(row, names)",
+                "fresh_names(names, many)"],
+    "books": ["check_letters(letters)", "check_row(letters, row)", "check_standings(*rows)"],
+    "fillings": ["put_in(row, filling)", "is_text(letters, text)", "check_filling(book, filling)", "fills(book, filling)",
+                 "total(filling)", "mirrored(filling)", "filling_key(filling)", "texts_of(letters, length)",
+                 "mirror_texts_of(letters, length)"],
+    "pairs": ["settle(pair)", "moves(pair)", "substitution(move)", "after(pair, move)", "start(book, empties)", "lots_of(names)"],
+    "texts": ["format_row(row)", "format_book(book)", "format_filling(filling)", "format_walk(walk)", "parse_row(text)",
+              "parse_book(text)", "parse_filling(text)", "parse_walk(text)"],
+    "names": ["renamed(book, table)", "renamed_filling(filling, table)", "canonical(book)", "alike_books(first, second)"],
+    "merging": ["merged(*books)", "extended(book, left, right)", "shortened(book, number)", "components(book)"],
+    "useful": ["useful_pairs(web)", "useful_steps(web)", "useful_starts(web)", "find_ring(web)", "verdict(book)", "walk_count(book)"],
+    "papers": ["closed_paper(book, *, lots=None)", "judge_closed(book, paper, *, lots=None)", "judge_walk(book, walk)",
+               "endless_paper(book)", "judge_endless(book, paper)"],
+    "forms": ["form_of(book, walk)"],
+    "walks": ["walks(book, *, most, lots=None)", "walk_of(book, filling)"],
+    "listing": ["fillings(book, *, most)", "least_filling(book, *, most)", "totals(book, *, most)", "all_fillings(book)"],
+    "gluing": ["check_lengths(book, lengths)"],
+    "sure": ["sure_letters(book, lengths)"],
+}
+CLASSES = {
+    "books": {"Book": ["__init__(self, letters, equations=())", "joined(self)"]},
+    "lots": {"Lots": ["__init__(self, many)", "glue(self, one, other)", "root(self, at)", "together(self, one, other)", "classes(self)"]},
+    "web": {"Web": ["__init__(self, book, *, lots=None)", "steps(self, pair)"]},
+    "forms": {"Form": ["__init__(self, rows, free)", "fill(self, texts)"]},
+    "gluing": {"Gluing": ["__init__(self, book, lengths, *, told=None)", "lot_at(self, place)", "letter_at(self, place)",
+                          "fillings(self)"]},
+}
+PROPERTIES = {"Book": ["size"], "Web": ["solvable"], "Form": ["weight"], "Gluing": ["free_lots", "many"]}
+
+
+def as_written(name, function):
+    """The name and the arguments, as the interface writes them."""
+    return name + str(inspect.signature(function))
+
+
+class Interface(unittest.TestCase):
+
+    def test_functions(self):
+        for file, written in FUNCTIONS.items():
+            module = importlib.import_module("twiceeach." + file)
+            for one in written:
+                with self.subTest(one):
+                    function = getattr(module, one.split("(")[0])
+                    self.assertEqual(as_written(one.split("(")[0], function), one)
+                    self.assertEqual(function.__module__, module.__name__)
+
+    def test_classes(self):
+        for file, classes in CLASSES.items():
+            module = importlib.import_module("twiceeach." + file)
+            for name, written in classes.items():
+                made = getattr(module, name)
+                self.assertEqual(made.__module__, module.__name__)
+                for one in written:
+                    with self.subTest((name, one)):
+                        self.assertEqual(as_written(one.split("(")[0], vars(made)[one.split("(")[0]]), one)
+                for one in PROPERTIES.get(name, []):
+                    self.assertIsInstance(vars(made)[one], property)
+
+    def test_the_walks_are_a_generator(self):
+        from twiceeach.walks import walks
+        self.assertTrue(inspect.isgeneratorfunction(walks))
+
+
+if __name__ == "__main__":
+    unittest.main()
