@@ -89,6 +89,13 @@ class Classes(unittest.TestCase):
         self.assertEqual(gluing.lots, (((("X", 0), ("Y", 0)), ("b",)), ((("X", 1), ("Y", 1)), ("a", "c"))))
         self.assertEqual((gluing.clash, gluing.many), (True, 0))
 
+    def test_letters_and_places_of_a_class_are_in_ascending_order(self):
+        asked = book("abcd", "Y = X", "Y = c", "X = a")
+        gluing = Gluing(asked, {"X": 1, "Y": 1}, told={("Y", 0): "b", ("X", 0): "d"})
+        self.assertEqual(gluing.lots, (((("X", 0), ("Y", 0)), ("a", "b", "c", "d")),))
+        gluing = Gluing(asked, {"X": 1, "Y": 1}, told={("X", 0): "b"})
+        self.assertEqual(gluing.lots, (((("X", 0), ("Y", 0)), ("a", "b", "c")),))
+
     def test_letters_that_clash_with_letters(self):
         gluing = Gluing(book("ab", "a X = b X"), {"X": 1})
         self.assertEqual((gluing.uneven, gluing.clash, gluing.many, gluing.fillings()), (False, True, 0, []))

@@ -76,9 +76,8 @@ def least_filling(book, *, most):
     for bound in range(most + 1):
         found = forms_up_to(book, bound)
         if found:
-            # The least total is a least weight, and the first letter makes each text as small as can be.
-            first = book.letters[0]
-            return min([form.fill({name: first for name in form.free}) for form in found], key=filling_key)
+            # Forms of the least weight have no free pieces: with these being empty, a filling would be smaller.
+            return min([form.fill({}) for form in found], key=filling_key)
     return None
 
 

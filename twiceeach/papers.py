@@ -45,8 +45,7 @@ def way_in(web, goal):
     # The web lists its pairs in the order in which they are found, so the first way in is a shortest one.
     for pair in web.pairs:
         for move, _, behind in web.steps(pair):
-            if behind not in begun:
-                came.setdefault(behind, (pair, move))
+            came.setdefault(behind, (pair, move))
     taken = []
     while goal not in begun:
         goal, move = came[goal]

@@ -1,0 +1,105 @@
+"""The form of the package: what of LANGUAGE.md can be read off its files (L1, L2, L4, L6, L8, L10, L14 to L16)."""
+
+import ast
+import builtins
+import pathlib
+import unittest
+
+PACKAGE = pathlib.Path(__file__).resolve().parent.parent / "twiceeach"
+LIBRARY = ["heapq", "math", "itertools", "collections", "__future__"]
+BUILTINS = set("""
+    len range enumerate zip min max sum abs sorted reversed int str bool bytes list tuple dict set frozenset isinstance ord
+    repr any all divmod pow getattr hasattr setattr iter next map type super property staticmethod classmethod object float
+    Exception ValueError TypeError KeyError IndexError LookupError ZeroDivisionError ArithmeticError OverflowError
+    RuntimeError NotImplementedError AttributeError StopIteration NotImplemented
+""".split())
+DECORATORS = ["property", "staticmethod", "classmethod"]
+NEVER = (ast.AsyncFunctionDef, ast.AsyncFor, ast.AsyncWith, ast.Await, ast.Div, ast.Import)
+
+
+def files():
+    """The files of the package, but for the one that may read and print, each with its text."""
+    return {path.name: path.read_text(encoding="utf-8") for path in sorted(PACKAGE.glob("*.py")) if path.name != "__main__.py"}
+
+
+def nodes(kind):
+    """All nodes of a kind, each with the name of its file."""
+    return [(name, node) for name, text in files().items() for node in ast.walk(ast.parse(text)) if isinstance(node, kind)]
+
+
+class Form(unittest.TestCase):
+
+    def test_the_folder_contains_python_files_only(self):
+        for path in PACKAGE.iterdir():
+            if path.name != "__pycache__":
+                self.assertTrue(path.is_file() and path.suffix == ".py" and path.name == path.name.lower(), path)
+
+    def test_sizes(self):
+        for name, text in files().items():
+            lines = text.split("\n")
+            self.assertLessEqual(len(lines), 400, name)
+            for number, line in enumerate(lines, 1):
+                self.assertLessEqual(len(line), 120, (name, number))
+        for name, node in nodes(ast.FunctionDef):
+            self.assertLessEqual(node.end_lineno - node.lineno + 1, 40, (name, node.name))
+
+    def test_characters(self):
+        for name, text in files().items():
+            self.assertTrue(all(sign == "\n" or " " <= sign <= "~" for sign in text), name)
+
+    def test_imports(self):
+        for name, node in nodes(ast.ImportFrom):
+            self.assertEqual(node.level, 0, (name, node.lineno))
+            self.assertTrue(node.module in LIBRARY or node.module.startswith("twiceeach."), (name, node.module))
+            if node.module.startswith("twiceeach."):
+                source = ast.parse(files()[node.module.split(".")[1] + ".py"])
+                defined = [one.name for one in source.body if isinstance(one, (ast.FunctionDef, ast.ClassDef))]
+                defined += [target.id for one in source.body if isinstance(one, ast.Assign) for target in one.targets]
+                for one in node.names:
+                    self.assertIn(one.name, defined, (name, node.lineno))
+
+    def test_module_level(self):
+        kinds = (ast.ImportFrom, ast.FunctionDef, ast.ClassDef, ast.Assign, ast.AnnAssign, ast.Expr)
+        for name, text in files().items():
+            bound = []
+            for node in ast.parse(text).body:
+                self.assertIsInstance(node, kinds, (name, node.lineno))
+                if isinstance(node, ast.ImportFrom):
+                    bound += [one.asname or one.name for one in node.names]
+                elif isinstance(node, ast.Assign):
+                    bound += [target.id for target in node.targets]
+                elif isinstance(node, (ast.FunctionDef, ast.ClassDef)):
+                    bound.append(node.name)
+            self.assertEqual(len(set(bound)), len(bound), name)
+
+    def test_names_of_builtins(self):
+        for name, node in nodes(ast.Name):
+            if node.id in dir(builtins):
+                self.assertIn(node.id, BUILTINS, (name, node.lineno))
+                self.assertIsInstance(node.ctx, ast.Load, (name, node.lineno))
+
+    def test_what_is_never_written(self):
+        for name, node in nodes(NEVER):
+            self.fail((name, type(node).__name__))
+        for name, node in nodes(ast.Constant):
+            self.assertNotIsInstance(node.value, float, (name, node.lineno))
+        for name, node in nodes(ast.FunctionDef):
+            for one in node.decorator_list:
+                self.assertTrue(ast.unparse(one) in DECORATORS or ast.unparse(one).endswith(".setter"), (name, node.name))
+        for name, node in nodes(ast.ExceptHandler):
+            self.assertIsNotNone(node.type, (name, node.lineno))
+
+    def test_no_local_name_is_that_of_a_class_or_an_import_of_its_file(self):
+        for name, text in files().items():
+            tree = ast.parse(text)
+            taken = {one.name for node in ast.walk(tree) if isinstance(node, ast.ImportFrom) for one in node.names}
+            taken |= {node.name for node in ast.walk(tree) if isinstance(node, ast.ClassDef)}
+            for node in ast.walk(tree):
+                if isinstance(node, ast.Name) and isinstance(node.ctx, ast.Store):
+                    self.assertNotIn(node.id, taken, (name, node.lineno))
+                if isinstance(node, ast.arg):
+                    self.assertNotIn(node.arg, taken, (name, node.lineno))
+
+
+if __name__ == "__main__":
+    unittest.main()
