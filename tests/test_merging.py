@@ -58,6 +58,7 @@ class Merging(unittest.TestCase):
     def test_extending_copies_the_rows(self):
         left = ["X"]
         made = extended(Book("ab"), left, [])
+        self.assertEqual(left, ["X"])
         left.append("Y")
         self.assertEqual(made, book("ab", "X ="))
 

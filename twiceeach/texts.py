@@ -98,8 +98,9 @@ def parse_book(text):
     first, *others = text.split("\n")
     check_lines([is_alphabet_line(first), *[is_equation(line) for line in others]])
     sides = [line.partition(EQUALS) for line in others]
+    equations = [(symbols_of(left), symbols_of(right)) for left, _, right in sides]
     try:
-        return Book(first[len("letters "):], [(symbols_of(left), symbols_of(right)) for left, _, right in sides])
+        return Book(first[len("letters "):], equations)
     except BadBook as error:
         raise BadText(0) from error
 
