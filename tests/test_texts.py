@@ -86,9 +86,6 @@ class Books(Reading):
             self.assertIs(type(made.__cause__), error)
         self.assertEqual(self.assert_bad(parse_book, 0, "letters ab\n- = a #").__cause__.symbol, "#")
 
-    def test_a_bad_line_is_not_raised_from_another_error(self):
-        self.assertIsNone(self.assert_bad(parse_book, 2, "letters ab\nX").__cause__)
-
 
 class Fillings(Reading):
 

@@ -147,7 +147,7 @@ class Verdicts(unittest.TestCase):
             if word == "none":
                 self.assertEqual((found, walk_count(sample)), ([], 0))
             elif word == "finite":
-                # No text of so few letters on a side is longer than the letters that it has to match.
+                # The finite books among the samples have no filling with a total above 7.
                 self.assertEqual(len(search(sample, 7)), walk_count(sample))
             else:
                 with self.assertRaises(Endless):
