@@ -1,4 +1,4 @@
-"""The form of the package: what of LANGUAGE.md can be read off its files (L1, L2, L4, L6, L8, L10, L14 to L16)."""
+"""The form of the package: what of LANGUAGE.md can be read off its files (L1, L2, L4, L6, L8, L10, L14 to L16, L23)."""
 
 import ast
 import builtins
@@ -14,6 +14,7 @@ BUILTINS = set("""
     RuntimeError NotImplementedError AttributeError StopIteration NotImplemented
 """.split())
 DECORATORS = ["property", "staticmethod", "classmethod"]
+CHANGING = ["append", "clear", "extend", "insert", "pop", "remove", "reverse", "setdefault", "update"]
 NEVER = (ast.AsyncFunctionDef, ast.AsyncFor, ast.AsyncWith, ast.Await, ast.Div, ast.Import)
 
 
@@ -25,6 +26,46 @@ def files():
 def nodes(kind):
     """All nodes of a kind, each with the name of its file."""
     return [(name, node) for name, text in files().items() for node in ast.walk(ast.parse(text)) if isinstance(node, kind)]
+
+
+def same_lists(function):
+    """For each name of a function one name that stands for all names of the same list, as far as `a = b` tells."""
+    names = {}
+    for node in ast.walk(function):
+        if isinstance(node, ast.Assign) and isinstance(node.value, ast.Name):
+            for target in node.targets:
+                if isinstance(target, ast.Name):
+                    kept, gone = names.get(node.value.id, node.value.id), names.get(target.id, target.id)
+                    names.update({one: kept for one in [target.id, *names] if names.get(one, one) == gone})
+    return names
+
+
+def walked_names(walked):
+    """The names and attributes that a loop over the expression walks itself, and not as a copy."""
+    if isinstance(walked, ast.Name):
+        return [walked.id]
+    if isinstance(walked, ast.Attribute):
+        return [walked.attr]
+    if isinstance(walked, ast.Call) and isinstance(walked.func, ast.Attribute):
+        return walked_names(walked.func.value)
+    if isinstance(walked, ast.Call) and walked.func.id in ("enumerate", "zip", "reversed"):
+        return [name for argument in walked.args for name in walked_names(argument)]
+    if isinstance(walked, ast.IfExp):
+        return walked_names(walked.body) + walked_names(walked.orelse)
+    return []
+
+
+def changed_names(loop):
+    """The names and attributes of which the rows of a loop change the items."""
+    changed = []
+    for node in (one for row in loop.body for one in ast.walk(row)):
+        if isinstance(node, ast.Call) and isinstance(node.func, ast.Attribute) and node.func.attr in CHANGING:
+            changed += walked_names(node.func.value)
+        elif isinstance(node, ast.Subscript) and isinstance(node.ctx, (ast.Store, ast.Del)):
+            changed += walked_names(node.value)
+        elif isinstance(node, ast.AugAssign):
+            changed += walked_names(node.target)
+    return changed
 
 
 class Form(unittest.TestCase):
@@ -99,6 +140,15 @@ class Form(unittest.TestCase):
                     self.assertNotIn(node.id, taken, (name, node.lineno))
                 if isinstance(node, ast.arg):
                     self.assertNotIn(node.arg, taken, (name, node.lineno))
+
+    def test_no_loop_changes_what_it_walks(self):
+        for name, function in nodes(ast.FunctionDef):
+            names = same_lists(function)
+            for loop in ast.walk(function):
+                if isinstance(loop, ast.For):
+                    walked = {names.get(one, one) for one in walked_names(loop.iter)}
+                    changed = {names.get(one, one) for one in changed_names(loop)}
+                    self.assertEqual(walked & changed, set(), (name, loop.lineno))
 
 
 if __name__ == "__main__":

@@ -40,7 +40,7 @@ def free_choices(letters, form, most):
     choices = [(form.weight, {})]
     for name, kind in form.free.items():
         wider = []
-        for size, texts in choices:
+        for size, texts in list(choices):
             for length, grown in growth(form, name, size, most):
                 wider.extend([(grown, {**texts, name: text}) for text in free_texts(letters, kind, length)])
         choices = wider
@@ -53,7 +53,7 @@ def form_totals(letters, form, most):
     counts[form.weight] = 1
     for name, kind in form.free.items():
         wider = [0] * (most + 1)
-        for size, many in enumerate(counts):
+        for size, many in enumerate(list(counts)):
             if many > 0:
                 for length, grown in growth(form, name, size, most):
                     wider[grown] += many * free_text_count(letters, kind, length)
