@@ -3,13 +3,16 @@
 import unittest
 
 from twiceeach.books import Book
+from twiceeach.effects import effect
 from twiceeach.errors import BadWalk
 from twiceeach.forms import form_of
 from twiceeach.gluing import Gluing
 from twiceeach.listing import fillings
+from twiceeach.makers import ender
 from twiceeach.names import canonical
 from twiceeach.pairs import after, settle
 from twiceeach.papers import closed_paper
+from twiceeach.pathway import lengths_walk
 from twiceeach.symbols import replaced, turned
 from twiceeach.texts import parse_book
 from twiceeach.useful import walk_count
@@ -66,6 +69,13 @@ class Examples(unittest.TestCase):
         gluing = Gluing(Book("ab", [(["X", "b"], ["Y", "X~"])]), {"X": 2, "Y": 1}, told={("X", 1): "a"})
         self.assertEqual((gluing.lots, gluing.many, gluing.fillings()),
                          (((((('X', 0), ('Y', 0)), ('b',)), ((('X', 1),), ('a',)))), 1, [{'X': 'ba', 'Y': 'b'}]))
+
+    def test_pathway(self):
+        self.assertEqual(lengths_walk(Book("ab", [(["X", "Y"], ["Y", "X"])]), {"X": 2, "Y": 4}),
+                         (((), (('starts', 'Y', 'X'), ('is', 'X', 'Y'))), {'Y': ('any', 2)}))
+
+    def test_effects(self):
+        self.assertEqual(effect([ender("ab", "a")], "ab"), (((0, 0), (1, 1)),))
 
 
 if __name__ == "__main__":

@@ -25,6 +25,16 @@ FUNCTIONS = {
     "listing": ["fillings(book, *, most)", "least_filling(book, *, most)", "totals(book, *, most)", "all_fillings(book)"],
     "gluing": ["check_lengths(book, lengths)"],
     "sure": ["sure_letters(book, lengths)"],
+    "letting": ["balance(left, right)", "is_even(book, lengths)", "let_lengths(book, *, most)"],
+    "pathway": ["lengths_walk(book, lengths)", "rest_places(rests)"],
+    "cutting": ["cut_piece(book, name)", "cut_filling(filling, name, first, second, at)", "mended_filling(filling, name, first, second)"],
+    "machines": ["check_machines(letters, machines)"],
+    "effects": ["unit(machines)", "effect(machines, text)", "combine(first, second, /)", "turn(worth)",
+                "row_effect(machines, row, effects)", "takes(machine, states)"],
+    "makers": ["counter(letters, letter, rests, rest)", "beginner(letters, letter)", "ender(letters, letter)",
+               "holder(letters, pattern)", "opposite(machine)"],
+    "rules": ["check_rule(book, machines, rule)", "keeps(book, machines, rule, filling)", "vector_of(book, machines, filling)",
+              "vector_keeps(book, machines, rule, vector)"],
 }
 CLASSES = {
     "books": {"Book": ["__init__(self, letters, equations=())", "joined(self)"]},
@@ -33,13 +43,19 @@ CLASSES = {
     "forms": {"Form": ["__init__(self, rows, free)", "fill(self, texts)"]},
     "gluing": {"Gluing": ["__init__(self, book, lengths, *, told=None)", "lot_at(self, place)", "letter_at(self, place)",
                           "fillings(self)"]},
+    "machines": {"Machine": ["__init__(self, letters, table, good)", "run(self, text, *, begin=0)", "taking_all(cls, letters)",
+                             "__contains__(self, text)", "__mul__(self, other)"]},
+    "closing": {"Closing": ["__init__(self, machines)", "least(self, worth)", "least_mirror(self, worth)"]},
+    "tables": {"Table": ["__init__(self, book, machines)", "vectors_at(self, pair)", "filling_with(self, vector)"]},
 }
+VALUES = {"Machine": {"MOST_STATES": 4}, "Closing": {"LIMIT": 60}}
+CLASS_METHODS = {"Machine": ["taking_all"]}
 PROPERTIES = {"Book": ["size"], "Web": ["solvable"], "Form": ["weight"], "Gluing": ["free_lots", "many"]}
 
 
 def as_written(name, function):
     """The name and the arguments, as the interface writes them."""
-    return name + str(inspect.signature(function))
+    return name + str(inspect.signature(function.__func__ if isinstance(function, classmethod) else function))
 
 
 class Interface(unittest.TestCase):
@@ -64,6 +80,10 @@ class Interface(unittest.TestCase):
                         self.assertEqual(as_written(one.split("(")[0], vars(made)[one.split("(")[0]]), one)
                 for one in PROPERTIES.get(name, []):
                     self.assertIsInstance(vars(made)[one], property)
+                for one in CLASS_METHODS.get(name, []):
+                    self.assertIsInstance(vars(made)[one], classmethod)
+                for one, worth in VALUES.get(name, {}).items():
+                    self.assertEqual(vars(made)[one], worth)
 
     def test_the_walks_are_a_generator(self):
         from twiceeach.walks import walks

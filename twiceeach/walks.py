@@ -1,4 +1,4 @@
-"""The walks up to a weight, and the walk of a filling (points 48 to 51)."""
+"""The walks up to a weight, and the walks of fillings and of told lengths (points 48 to 51 and 63)."""
 
 from twiceeach.errors import NoFilling, TooLarge
 from twiceeach.fillings import fills
@@ -53,45 +53,60 @@ def walks(book, *, most, lots=None):
             yield walk
 
 
-def length_of(symbol, rest):
-    """Return the length of a letter, or of what is left of the text of a piece."""
-    return len(rest[name_of(symbol)]) if is_piece(symbol) else 1
+def length_of(symbol, left):
+    """Return the length of a letter, or the length that is left of a piece."""
+    return left[name_of(symbol)] if is_piece(symbol) else 1
 
 
-def told_move(pair, rest):
-    """Return the move of the live pair that is told by what is left of the texts."""
+def told_move(pair, left):
+    """Return the move of the live pair that is told by the lengths that are left of the pieces."""
     one, other = pair[0][0], pair[1][0]
     if not is_piece(one):
         one, other = other, one
-    longer = length_of(one, rest) - length_of(other, rest)
+    longer = length_of(one, left) - length_of(other, left)
     if longer == 0:
         return "is", one, other
     return ("starts", one, other) if longer > 0 else ("starts", other, one)
 
 
-def shortened_rest(rest, move):
-    """Return what is left of the texts after the move, a new dict."""
-    word, z, w = move
-    name = name_of(z)
-    if word == "is":
-        return rest
-    cut = length_of(w, rest)
-    left = rest[name][:-cut] if is_turned(z) else rest[name][cut:]
-    return {**rest, name: left}
+def told_walk(book, lengths):
+    """Return the walk that fitting lengths tell, the pieces that are freed on it, and the lengths that are left.
+
+    It is None if the start or a result is dead.
+    """
+    lot = tuple(name for name in book.pieces if lengths[name] == 0)
+    left = {name: lengths[name] for name in book.pieces}
+    result = start(book, lot)
+    taken, freed = [], []
+    while result is not None:
+        more, pair = result
+        freed.extend(more)
+        if pair == END:
+            return (lot, tuple(taken)), sorted(freed), left
+        move = told_move(pair, left)
+        word, z, w = move
+        if word == "starts":
+            left[name_of(z)] -= length_of(w, left)
+        taken.append(move)
+        result = after(pair, move)
+    return None
+
+
+def shortened_texts(filling, taken):
+    """Return what is left of the texts of a filling behind the moves of its walk, a dict."""
+    texts = dict(filling)
+    for word, z, w in taken:
+        if word == "starts":
+            name = name_of(z)
+            cut = len(texts[name_of(w)]) if is_piece(w) else 1
+            texts[name] = texts[name][:-cut] if is_turned(z) else texts[name][cut:]
+    return texts
 
 
 def walk_of(book, filling):
     """Return the walk to which a filling that fills the book belongs, and its free texts."""
     if not fills(book, filling):
         raise NoFilling()
-    rest = dict(filling)
-    lot = tuple(name for name in book.pieces if filling[name] == "")
-    freed, pair = start(book, lot)
-    taken = []
-    while pair != END:
-        move = told_move(pair, rest)
-        rest = shortened_rest(rest, move)
-        taken.append(move)
-        more, pair = after(pair, move)
-        freed = freed + more
-    return (lot, tuple(taken)), {name: rest[name] for name, _ in sorted(freed)}
+    walk, freed, _ = told_walk(book, {name: len(text) for name, text in filling.items()})
+    texts = shortened_texts(filling, walk[1])
+    return walk, {name: texts[name] for name, _ in freed}
