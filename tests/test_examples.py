@@ -3,18 +3,26 @@
 import unittest
 
 from twiceeach.books import Book
+from twiceeach.breakers import breaker
+from twiceeach.cuts import cut_book
 from twiceeach.effects import effect
 from twiceeach.errors import BadWalk
+from twiceeach.exchanges import Exchange
 from twiceeach.forms import form_of
 from twiceeach.gluing import Gluing
 from twiceeach.listing import fillings
-from twiceeach.makers import ender
+from twiceeach.machines import Machine
+from twiceeach.makers import counter, ender
+from twiceeach.mirrors import straightened_book
 from twiceeach.names import canonical
 from twiceeach.pairs import after, settle
 from twiceeach.papers import closed_paper
 from twiceeach.pathway import lengths_walk
+from twiceeach.rings import ring_fillings
+from twiceeach.rulepapers import rule_paper
 from twiceeach.symbols import replaced, turned
 from twiceeach.texts import parse_book
+from twiceeach.turnings import turnings
 from twiceeach.useful import walk_count
 from twiceeach.walks import walks
 from twiceeach.web import Web
@@ -76,6 +84,32 @@ class Examples(unittest.TestCase):
 
     def test_effects(self):
         self.assertEqual(effect([ender("ab", "a")], "ab"), (((0, 0), (1, 1)),))
+
+    def test_breakers(self):
+        book = Book("ab", [(["X", "a"], ["a", "X"])])
+        self.assertEqual(breaker(book, [counter("ab", "a", 2, 0)], ("takes", 0, ("X",))), {'X': 'a'})
+
+    def test_rule_papers(self):
+        self.assertEqual(rule_paper(Book("a", [(["X"], ["a"])]), [Machine.taking_all("a")], ("takes", 0, ("X",))),
+                         ((((), ()), ((),)), ((('X',), ('a',)), (((((0,), (0,)),),),))))
+
+    def test_mirrors(self):
+        made, names = straightened_book(Book("ab", [(["X~", "a"], ["Y", "X"])]))
+        self.assertEqual((made.equations, names), (((('X', 'a'), ('Y', 'X~')),), ('X',)))
+
+    def test_turnings(self):
+        self.assertEqual(turnings("abab", "baba"), (1, 3))
+
+    def test_cuts(self):
+        made, parts = cut_book("ab", ("X", "a"), ("b", "X~"), ("within", 1))
+        self.assertEqual((made.equations, parts), (((('N0', 'N1', 'a'), ('N0~', 'b', 'N1~')),), ('X', 'N0', 'N1')))
+
+    def test_rings(self):
+        self.assertEqual(ring_fillings("ab", ("X", "b"), ("b", "Y"), most=2),
+                         [{'X': '', 'Y': ''}, {'X': 'a', 'Y': 'a'}, {'X': 'b', 'Y': 'b'}])
+
+    def test_exchanges(self):
+        self.assertEqual((Exchange((2, -1)).rearranged(["ab", "c"]), (~Exchange((2, -1))).blocks), (['c', 'ba'], (-2, 1)))
 
 
 if __name__ == "__main__":

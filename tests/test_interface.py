@@ -35,6 +35,15 @@ FUNCTIONS = {
                "holder(letters, pattern)", "opposite(machine)"],
     "rules": ["check_rule(book, machines, rule)", "keeps(book, machines, rule, filling)", "vector_of(book, machines, filling)",
               "vector_keeps(book, machines, rule, vector)"],
+    "breakers": ["holds(book, machines, rule)", "breaker(book, machines, rule)", "least_breaker(book, machines, rule, *, most)",
+                 "alike_rules(book, machines, first, second)", "first_telling(first, second, machines)"],
+    "rulepapers": ["rule_paper(book, machines, rule)", "judge_rule_paper(book, machines, rule, paper)"],
+    "mirrors": ["turned_book(book)", "swapped_book(book)", "backward_book(book)", "toggled_book(book, name)", "straightened_book(book)"],
+    "ownmirrors": ["mirror_count(book, lengths, names)", "always_mirror(book, lengths, name)"],
+    "turnings": ["turnings(text, other)", "least_turning(text)"],
+    "cuts": ["cuts(left, right)", "cut_book(letters, left, right, cut)", "cut_lots(made)"],
+    "rings": ["alike_ring(letters, left, right)", "ring_fillings(letters, left, right, *, most)", "ring_papers(letters, left, right)",
+              "judge_ring_papers(letters, left, right, papers)", "ring_count(letters, left, right, lengths)"],
 }
 CLASSES = {
     "books": {"Book": ["__init__(self, letters, equations=())", "joined(self)"]},
@@ -47,9 +56,11 @@ CLASSES = {
                              "__contains__(self, text)", "__mul__(self, other)"]},
     "closing": {"Closing": ["__init__(self, machines)", "least(self, worth)", "least_mirror(self, worth)"]},
     "tables": {"Table": ["__init__(self, book, machines)", "vectors_at(self, pair)", "filling_with(self, vector)"]},
+    "exchanges": {"Exchange": ["__init__(self, blocks)", "plain(cls, many)", "rearranged(self, texts)", "__call__(self, texts)",
+                               "__invert__(self)", "__neg__(self)", "__mul__(self, other)", "is_lean(self)", "__eq__(self, other)"]},
 }
-VALUES = {"Machine": {"MOST_STATES": 4}, "Closing": {"LIMIT": 60}}
-CLASS_METHODS = {"Machine": ["taking_all"]}
+VALUES = {"Machine": {"MOST_STATES": 4}, "Closing": {"LIMIT": 60}, "Exchange": {"MOST": 12}}
+CLASS_METHODS = {"Machine": ["taking_all"], "Exchange": ["plain"]}
 PROPERTIES = {"Book": ["size"], "Web": ["solvable"], "Form": ["weight"], "Gluing": ["free_lots", "many"]}
 
 

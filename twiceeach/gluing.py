@@ -73,6 +73,36 @@ def letters_clash(one, other):
     return isinstance(one, str) and isinstance(other, str) and one != other
 
 
+def has_clash(classes, glued):
+    """Return True if a class has two different letters, or if two different letters are glued to each other."""
+    crowded = [places for places, letters in classes if len(letters) > 1]
+    return crowded != [] or any([letters_clash(one, other) for one, other in glued])
+
+
+def letter_choices(letters, places, glued):
+    """Return the number of ways to give letters to the places in which all that is glued agrees."""
+    classes = glued_classes(places, glued)
+    if has_clash(classes, glued):
+        return 0
+    return text_count(letters, len([found for _, found in classes if found == ()]))
+
+
+def all_places(lengths):
+    """Return the places of the pieces with the lengths, a list in ascending order."""
+    return [(name, at) for name in sorted(lengths) for at in range(lengths[name])]
+
+
+def glued_sides(book, lengths):
+    """Return the tuples of what the sides glue to each other, a list, or None if the lengths are uneven."""
+    glued = []
+    for left, right in book.equations:
+        one, other = spread(left, lengths), spread(right, lengths)
+        if len(one) != len(other):
+            return None
+        glued.extend(list(zip(one, other)))
+    return glued
+
+
 class Gluing:
     """The classes of the places for told lengths, and maybe told letters."""
 
@@ -82,20 +112,15 @@ class Gluing:
         check_told(book.letters, lengths, letters_told)
         self._letters = book.letters
         self._lengths = {name: lengths[name] for name in book.pieces}
-        sides = [(spread(left, lengths), spread(right, lengths)) for left, right in book.equations]
-        self.uneven = any([len(left) != len(right) for left, right in sides])
+        glued = glued_sides(book, lengths)
+        self.uneven = glued is None
         self.clash = False
         self.lots = ()
-        if not self.uneven:
-            glued = [pair for left, right in sides for pair in zip(left, right)] + list(letters_told.items())
-            self.lots = glued_classes(self._places(), glued)
-            crowded = [places for places, letters in self.lots if len(letters) > 1]
-            self.clash = crowded != [] or any([letters_clash(one, other) for one, other in glued])
+        if glued is not None:
+            glued = glued + list(letters_told.items())
+            self.lots = glued_classes(all_places(self._lengths), glued)
+            self.clash = has_clash(self.lots, glued)
         self._index = {place: at for at, lot in enumerate(self.lots) for place in lot[0]}
-
-    def _places(self):
-        """Return all places, a list in ascending order."""
-        return [(name, at) for name, length in self._lengths.items() for at in range(length)]
 
     @property
     def free_lots(self):

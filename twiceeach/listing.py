@@ -10,9 +10,9 @@ from twiceeach.walks import check_most, walks_with_forms
 from twiceeach.web import Web
 
 
-def forms_up_to(book, most):
-    """Return the forms of all walks of the book whose weight is at most `most`, a list."""
-    return [form for lot in lots_of(book.pieces) for _, form in walks_with_forms(book, lot, most)]
+def forms_up_to(book, most, lots):
+    """Return the forms of the walks with the lots whose weight is at most `most`, a list."""
+    return [form for lot in lots for _, form in walks_with_forms(book, lot, most)]
 
 
 def free_texts(letters, kind, length):
@@ -36,7 +36,7 @@ def growth(form, name, size, most):
 
 
 def free_choices(letters, form, most):
-    """Return the free texts with which the form gives a total of at most `most`, a list of dicts."""
+    """Return the free texts with which the form gives a total of at most `most`, a list of tuples (total, dict)."""
     choices = [(form.weight, {})]
     for name, kind in form.free.items():
         wider = []
@@ -44,7 +44,7 @@ def free_choices(letters, form, most):
             for length, grown in growth(form, name, size, most):
                 wider.extend([(grown, {**texts, name: text}) for text in free_texts(letters, kind, length)])
         choices = wider
-    return [texts for _, texts in choices]
+    return choices
 
 
 def form_totals(letters, form, most):
@@ -61,20 +61,34 @@ def form_totals(letters, form, most):
     return counts
 
 
+def fillings_with_lots(book, most, lots):
+    """Return the fillings with totals up to `most` whose empty pieces are one of the lots, a list in order."""
+    found = []
+    for form in forms_up_to(book, most, lots):
+        found.extend([form.fill(texts) for _, texts in free_choices(book.letters, form, most)])
+    return sorted(found, key=filling_key)
+
+
+def fillings_of_forms(letters, forms, size):
+    """Return the fillings that the forms give and that have the total, a list in order."""
+    found = []
+    for form in forms:
+        if form.weight <= size:
+            found.extend([form.fill(texts) for grown, texts in free_choices(letters, form, size) if grown == size])
+    return sorted(found, key=filling_key)
+
+
 def fillings(book, *, most):
     """Return the fillings with totals up to `most` that fill the book, a list in order."""
     check_most(most)
-    found = []
-    for form in forms_up_to(book, most):
-        found.extend([form.fill(texts) for texts in free_choices(book.letters, form, most)])
-    return sorted(found, key=filling_key)
+    return fillings_with_lots(book, most, lots_of(book.pieces))
 
 
 def least_filling(book, *, most):
     """Return the first filling with a total of at most `most` that fills the book, or None."""
     check_most(most)
     for bound in range(most + 1):
-        found = forms_up_to(book, bound)
+        found = forms_up_to(book, bound, lots_of(book.pieces))
         if found:
             # Forms of the least weight have no free pieces: with these being empty, a filling would be smaller.
             return min([form.fill({}) for form in found], key=filling_key)
@@ -85,7 +99,7 @@ def totals(book, *, most):
     """Return the numbers of the fillings with the totals 0, 1, .., `most` that fill the book, a list."""
     check_most(most)
     counts = [0] * (most + 1)
-    for form in forms_up_to(book, most):
+    for form in forms_up_to(book, most, lots_of(book.pieces)):
         for size, many in enumerate(form_totals(book.letters, form, most)):
             counts[size] += many
     return counts

@@ -60,7 +60,8 @@ def standings(name, *rows):
 def replaced(row, name, content):
     """Return the row with the piece replaced by the content, a tuple."""
     straight = tuple(content)
-    backward = turned(straight)
+    # Most rows that are replaced in have no turned standing, or none at all.
+    backward = turned(straight) if name + TURN in row else ()
     made = []
     for symbol in row:
         if symbol == name:
