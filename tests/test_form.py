@@ -1,4 +1,4 @@
-"""The form of the package: what of LANGUAGE.md can be read off its files (L1, L2, L4, L6, L8, L10, L14 to L16, L23)."""
+"""The form of the package: what of LANGUAGE.md can be read off its files (L1, L2, L4, L6 to L8, L10, L14 to L16, L23)."""
 
 import ast
 import builtins
@@ -98,6 +98,23 @@ class Form(unittest.TestCase):
                 defined += [target.id for one in source.body if isinstance(one, ast.Assign) for target in one.targets]
                 for one in node.names:
                     self.assertIn(one.name, defined, (name, node.lineno))
+
+    def test_no_two_files_import_from_each_other_and_each_import_is_used(self):
+        sources = {name: [] for name in files()}
+        for name, node in nodes(ast.ImportFrom):
+            if node.module.startswith("twiceeach."):
+                sources[name].append(node.module.split(".")[1] + ".py")
+            names = {one.id for one in ast.walk(ast.parse(files()[name])) if isinstance(one, ast.Name)}
+            self.assertLessEqual({one.name for one in node.names}, names, (name, node.lineno))
+        while sources:
+            free = [name for name, found in sources.items() if not any(source in sources for source in found)]
+            self.assertNotEqual(free, [], sorted(sources))
+            sources = {name: found for name, found in sources.items() if name not in free}
+
+    def test_generator_expressions(self):
+        for name, node in nodes(ast.Call):
+            if any(isinstance(argument, ast.GeneratorExp) for argument in node.args):
+                self.assertIn(ast.unparse(node.func), ["tuple", "list", "dict"], (name, node.lineno))
 
     def test_module_level(self):
         kinds = (ast.ImportFrom, ast.FunctionDef, ast.ClassDef, ast.Assign, ast.AnnAssign, ast.Expr)

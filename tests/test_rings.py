@@ -3,7 +3,7 @@
 import itertools
 import unittest
 
-from tests.samples import book, search, text_of
+from tests.samples import search, text_of
 from tests.test_cuts import row, two_rows
 from twiceeach.books import Book
 from twiceeach.cuts import cut_book, cut_lots, cuts

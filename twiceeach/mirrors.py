@@ -31,8 +31,11 @@ def toggled_book(book, name):
 
 def is_turned_first(book, name):
     """Return True if the first standing of the piece is turned."""
-    row = [symbol for left, right in book.equations for symbol in left + right]
-    return is_turned([symbol for symbol in row if name_of(symbol) == name][0])
+    for left, right in book.equations:
+        for symbol in left + right:
+            if name_of(symbol) == name:
+                return is_turned(symbol)
+    return False
 
 
 def straightened_book(book):

@@ -1,7 +1,6 @@
 """Papers that show that a rule holds of a book (points 88 and 89)."""
 
 from twiceeach.arithmetic import Arithmetic
-from twiceeach.books import is_letter_of
 from twiceeach.breakers import first_broken
 from twiceeach.pairs import END, lots_of, settle
 from twiceeach.recipes import start_recipe, step_recipe
