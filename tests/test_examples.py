@@ -4,10 +4,13 @@ import unittest
 
 from twiceeach.books import Book
 from twiceeach.breakers import breaker
+from twiceeach.commutators import split_off
 from twiceeach.cuts import cut_book
+from twiceeach.desk import Desk
 from twiceeach.effects import effect
 from twiceeach.errors import BadWalk
 from twiceeach.exchanges import Exchange
+from twiceeach.fewest import fewest
 from twiceeach.forms import form_of
 from twiceeach.gluing import Gluing
 from twiceeach.listing import fillings
@@ -18,6 +21,8 @@ from twiceeach.names import canonical
 from twiceeach.pairs import after, settle
 from twiceeach.papers import closed_paper
 from twiceeach.pathway import lengths_walk
+from twiceeach.placemaps import blocks_of
+from twiceeach.polygons import corners
 from twiceeach.rings import ring_fillings
 from twiceeach.rulepapers import rule_paper
 from twiceeach.symbols import replaced, turned
@@ -110,6 +115,25 @@ class Examples(unittest.TestCase):
 
     def test_exchanges(self):
         self.assertEqual((Exchange((2, -1)).rearranged(["ab", "c"]), (~Exchange((2, -1))).blocks), (['c', 'ba'], (-2, 1)))
+
+    def test_placemaps(self):
+        made, lengths = blocks_of((3, 4, 2, 1, 0), turned=True)
+        self.assertEqual((made.blocks, lengths), ((2, -1), (3, 2)))
+
+    def test_fewest(self):
+        made, lengths = fewest("abab", "bbaa")
+        self.assertEqual((made.blocks, lengths), ((3, 2, 1), (1, 2, 1)))
+
+    def test_polygons(self):
+        self.assertEqual(corners(4, ((0, 2), (1, 3))), ((0, 1, 2, 3),))
+
+    def test_commutators(self):
+        self.assertEqual(split_off((1, 2, 3, -1, -2, -3), ((0, 3), (1, 4), (2, 5)))[2:], ((3, -3), ((0, 1),)))
+
+    def test_desk(self):
+        desk = Desk("ab")
+        desk.edit(("add", ["X", "a"], ["a", "X"]), ("tell", "X", 3))
+        self.assertEqual((desk.number(), desk.state().walk, desk.journal), (1, (('X',), ()), ('add X a = a X', 'tell X 3')))
 
 
 if __name__ == "__main__":

@@ -44,6 +44,25 @@ FUNCTIONS = {
     "cuts": ["cuts(left, right)", "cut_book(letters, left, right, cut)", "cut_lots(made)"],
     "rings": ["alike_ring(letters, left, right)", "ring_fillings(letters, left, right, *, most)", "ring_papers(letters, left, right)",
               "judge_ring_papers(letters, left, right, papers)", "ring_count(letters, left, right, lengths)"],
+    "placemaps": ["place_map(exchange, lengths)", "chained(first, second)", "back_map(source)", "rounds(source)",
+                  "blocks_of(source, *, turned=False)"],
+    "leading": ["leaves_book(letters, exchange)", "leads_book(letters, exchange, text, other)", "left_count(letters, exchange, lengths)",
+                "leads(exchange, text, other)"],
+    "fewest": ["lean_orders(many, *, turned=False)", "fewest(text, other, *, turned=False)",
+               "bars(letters, text, other, many, *, turned=False)", "judge_bars(letters, text, other, many, paper, *, turned=False)"],
+    "roots": ["root(text)", "exponent(text)", "commute(first, second)"],
+    "periods": ["periods(text)", "freest(length, wanted)", "is_period_lot(length, wanted)", "period_texts(letters, length, wanted)"],
+    "shapes": ["shape_of(book)"],
+    "shapecounts": ["shape_count(letters, word, lengths)"],
+    "solutions": ["solutions(book, *, most)"],
+    "polygons": ["gluings(word)", "corners(many, gluing)", "handles(many, gluing)"],
+    "genus": ["least_handles(word)", "best_gluing(word)"],
+    "commutators": ["crossing(gluing)", "split_off(letters, gluing)", "commutators(word)"],
+    "surfaces": ["closed_row(pair)", "surface_corners(pair)"],
+    "ringrules": ["ring_vectors(letters, left, right, machines)", "ring_holds(letters, left, right, machines, rule)",
+                  "ring_breaker(letters, left, right, machines, rule)"],
+    "keeping": ["first_walk(book)", "kept_walk(book, walk)", "renamed_walk(walk, table)"],
+    "deskreport": ["report(desk)"],
 }
 CLASSES = {
     "books": {"Book": ["__init__(self, letters, equations=())", "joined(self)"]},
@@ -58,10 +77,15 @@ CLASSES = {
     "tables": {"Table": ["__init__(self, book, machines)", "vectors_at(self, pair)", "filling_with(self, vector)"]},
     "exchanges": {"Exchange": ["__init__(self, blocks)", "plain(cls, many)", "rearranged(self, texts)", "__call__(self, texts)",
                                "__invert__(self)", "__neg__(self)", "__mul__(self, other)", "is_lean(self)", "__eq__(self, other)"]},
+    "opposites": {"Word": ["__init__(self, letters)", "__mul__(self, other)", "__invert__(self)", "__pow__(self, many)",
+                           "commutator(self, other)", "balanced(self)", "__len__(self)", "__iter__(self)", "__eq__(self, other)"]},
+    "states": {"DeskState": ["__init__(self, book, lengths, walk)"]},
+    "desk": {"Desk": ["__init__(self, letters)", "load(cls, text)", "edit(self, *edits)", "undo(self)", "redo(self)", "state(self)",
+                      "verdict(self)", "number(self)", "fillings(self, *, most)", "let_lengths(self, *, most)", "save(self)"]},
 }
 VALUES = {"Machine": {"MOST_STATES": 4}, "Closing": {"LIMIT": 60}, "Exchange": {"MOST": 12}}
-CLASS_METHODS = {"Machine": ["taking_all"], "Exchange": ["plain"]}
-PROPERTIES = {"Book": ["size"], "Web": ["solvable"], "Form": ["weight"], "Gluing": ["free_lots", "many"]}
+CLASS_METHODS = {"Machine": ["taking_all"], "Exchange": ["plain"], "Desk": ["load"]}
+PROPERTIES = {"Book": ["size"], "Web": ["solvable"], "Form": ["weight"], "Gluing": ["free_lots", "many"], "Desk": ["journal"]}
 
 
 def as_written(name, function):
@@ -96,9 +120,11 @@ class Interface(unittest.TestCase):
                 for one, worth in VALUES.get(name, {}).items():
                     self.assertEqual(vars(made)[one], worth)
 
-    def test_the_walks_are_a_generator(self):
+    def test_the_walks_and_the_gluings_are_generators(self):
+        from twiceeach.polygons import gluings
         from twiceeach.walks import walks
         self.assertTrue(inspect.isgeneratorfunction(walks))
+        self.assertTrue(inspect.isgeneratorfunction(gluings))
 
 
 if __name__ == "__main__":
