@@ -102,6 +102,7 @@ class Loading(unittest.TestCase):
         error = self.assert_bad("letters ab\nX c = Y\nlength Q 99", 0)
         self.assertIsInstance(error.__cause__, BadBook)
         self.assert_bad("letters ba\nX a = Y\nlength X 99", 0)
+        self.assert_bad("letters ba\nlength X 3", 0)
         self.assert_bad("letters ab\nX X = X\nlength X 3\nlength", 0)
         self.assert_bad("letters ab\nX # = Y\nlength X 3", 0)
         self.assert_bad("letters ab\nX a  = Y\nlength X 99", 2)

@@ -1,4 +1,5 @@
-"""The form of the package: what of LANGUAGE.md can be read off its files (L1, L2, L4, L6 to L8, L10, L14 to L16, L23)."""
+"""The form of the package: what of LANGUAGE.md can be read off its files (L1, L2, L4, L6 to L8, L10, L14 to L16,
+L20, L23, L25, L27)."""
 
 import ast
 import builtins
@@ -14,6 +15,11 @@ BUILTINS = set("""
     RuntimeError NotImplementedError AttributeError StopIteration NotImplemented
 """.split())
 DECORATORS = ["property", "staticmethod", "classmethod"]
+METHODS = set("""
+    append clear copy count endswith extend find get index insert isalnum isalpha isdigit islower isspace isupper items join keys ljust
+    lower lstrip partition pop remove replace reverse rfind rjust rpartition rsplit rstrip setdefault split splitlines startswith strip
+    update upper values zfill bit_length
+""".split())
 CHANGING = ["append", "clear", "extend", "insert", "pop", "remove", "reverse", "setdefault", "update"]
 NEVER = (ast.AsyncFunctionDef, ast.AsyncFor, ast.AsyncWith, ast.Await, ast.Div, ast.Import)
 
@@ -157,6 +163,25 @@ class Form(unittest.TestCase):
                     self.assertNotIn(node.id, taken, (name, node.lineno))
                 if isinstance(node, ast.arg):
                     self.assertNotIn(node.arg, taken, (name, node.lineno))
+
+    def test_methods_are_own_ones_or_plain_ones_of_builtin_values(self):
+        own = {node.name for _, node in nodes(ast.FunctionDef)}
+        for name, node in nodes(ast.Call):
+            if isinstance(node.func, ast.Attribute):
+                self.assertIn(node.func.attr, METHODS | own, (name, node.lineno))
+
+    def test_stars_in_calls_stand_before_names(self):
+        for name, node in nodes(ast.Call):
+            for argument in node.args:
+                if isinstance(argument, ast.Starred):
+                    self.assertIsInstance(argument.value, (ast.Name, ast.Attribute), (name, node.lineno))
+
+    def test_no_powers_and_nothing_compared_by_is_but_none_true_and_false(self):
+        for name, node in nodes(ast.BinOp):
+            self.assertNotIsInstance(node.op, ast.Pow, (name, node.lineno))
+        for name, node in nodes(ast.Compare):
+            if any(isinstance(sign, (ast.Is, ast.IsNot)) for sign in node.ops):
+                self.assertIsInstance(node.comparators[0], ast.Constant, (name, node.lineno))
 
     def test_no_loop_changes_what_it_walks(self):
         for name, function in nodes(ast.FunctionDef):

@@ -3,7 +3,6 @@
 from twiceeach.books import Book
 from twiceeach.cutting import mended_filling
 from twiceeach.effects import combine
-from twiceeach.machines import check_machines
 from twiceeach.rings import ring_books
 from twiceeach.rules import check_rule, effects_keep
 from twiceeach.tables import Table
@@ -22,7 +21,6 @@ def ring_vector(whole, made, vector):
 def ring_vectors(letters, left, right, machines):
     """Return the vectors of all fillings that make the two rows alike as rings, a tuple in ascending order."""
     books = ring_books(letters, left, right)
-    check_machines(letters, machines)
     whole = Book(letters, [(left, right)])
     found = {}
     for made in books:
