@@ -2,10 +2,11 @@
 
 import unittest
 
-from tests.samples import all_samples, book
+from tests.samples import all_samples, book, thrown_books
 from twiceeach.books import Book
 from twiceeach.keeping import first_walk, kept_walk, renamed_walk
 from twiceeach.names import renamed
+from twiceeach.pairs import END, after, lots_of, moves, start
 from twiceeach.papers import judge_walk
 from twiceeach.useful import verdict
 from twiceeach.walks import walks
@@ -13,9 +14,21 @@ from twiceeach.walks import walks
 NAMES = ["Q", "B", "Z9", "A", "N0", "X1"]
 
 
-def plain_least_moves(sample, most):
-    """The least number of moves of the walks up to a weight, or None."""
-    return min((len(taken) for _, taken in walks(sample, most=most)), default=None)
+def least_moves(sample, lot):
+    """The least number of moves of the walks of the book with the lot, or None, by taking all moves at once."""
+    level = {result[1] for result in [start(sample, lot)] if result is not None}
+    met, many = set(level), 0
+    while level and END not in level:
+        results = [after(pair, move) for pair in level for move in moves(pair)]
+        level = {result[1] for result in results if result is not None} - met
+        met, many = met | level, many + 1
+    return many if level else None
+
+
+def plain_least_moves(sample):
+    """The least number of moves of the walks of the book, or None."""
+    found = [least_moves(sample, lot) for lot in lots_of(sample.pieces)]
+    return min((many for many in found if many is not None), default=None)
 
 
 def tables_for(sample):
@@ -37,17 +50,13 @@ class FirstWalks(unittest.TestCase):
         self.assertEqual(len(first_walk(book("ab", "X = a b a"))[1]), 3)
 
     def test_a_shortest_walk(self):
-        for sample in all_samples():
-            found = first_walk(sample)
+        for sample in all_samples() + thrown_books(300, seed=99):
+            found, many = first_walk(sample), plain_least_moves(sample)
+            self.assertIs(found is None, many is None)
             self.assertIs(found is None, verdict(sample) == "none")
             if found is not None:
                 self.assertIs(judge_walk(sample, found), True)
-                least = plain_least_moves(sample, 6)
-                if least is not None:
-                    self.assertLessEqual(len(found[1]), least)
-                # With one move or none, no row of the form is longer than two symbols.
-                if len(found[1]) <= 1:
-                    self.assertEqual(len(found[1]), plain_least_moves(sample, 12))
+                self.assertEqual(len(found[1]), many)
 
     def test_no_shorter_walk(self):
         for sample in [book("ab", "X = a b a"), book("ab", "X Y = a b"), book("ab", "a X = X b a", "Y = b"), book("ab", "X a b = b a X")]:
